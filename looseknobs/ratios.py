@@ -134,6 +134,13 @@ def is_number(value):
     return is_whole(value) or isinstance(value, Ratio)
 
 
+def as_ratio(number):
+    """The Ratio that is this number."""
+    if isinstance(number, Ratio):
+        return number
+    return Ratio(number)
+
+
 def _both(value):
     """A number told as (number, under), under above 0."""
     if isinstance(value, Ratio):

@@ -68,6 +68,11 @@ class Word:
         return Word(signed_text(made_letters(self.letters, other.letters), sign))
 
 
+def is_word_of(value, wires):
+    """Whether this is a Word of so many wires."""
+    return isinstance(value, Word) and len(value) == wires
+
+
 def are_letters(text):
     """Whether this string is one to four of the letters I, X, Y, Z."""
     return 1 <= len(text) <= MOST_WIRES and all([letter in LETTERS for letter in text])

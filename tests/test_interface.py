@@ -1,4 +1,4 @@
-"""The interface's names, as far as they are built: the files, classes and members."""
+"""The interface's names, as far as they are built: the files, classes, members and parameters."""
 
 import ast
 import importlib
@@ -6,44 +6,78 @@ import inspect
 import pathlib
 import unittest
 
+from looseknobs.circuits import Circuit
 from looseknobs.ratios import Ratio
+from looseknobs.spreads import spread
+from looseknobs.waves import Wave
 from looseknobs.words import Word
 
 ROOT = pathlib.Path(__file__).resolve().parent.parent
 
 CLASSES = {
-    "ratios": {"Ratio": ("of", "divided")},
-    "words": {"Word": ("bent", "passes")},
+    "ratios": {"Ratio": {"of": ["text"], "divided": ["other"]}},
+    "words": {"Word": {"bent": ["other"], "passes": ["other"]}},
+    "waves": {"Wave": {"at": ["setting"], "put": ["setting"], "slope": ["knob"]}},
+    "circuits": {"Circuit": {"put": ["place", "line"], "without": ["number"]}},
+    "spreads": {"Spread": {"part": ["letters"], "at": ["setting"]}},
 }
 
-PARAMETERS = (
-    (Ratio, ["number", "under"]),
-    (Ratio.of, ["text"]),
-    (Ratio(1).divided, ["other"]),
-    (Word, ["text"]),
-    (Word("X").bent, ["other"]),
-    (Word("X").passes, ["other"]),
+MADE = {"Ratio": ["number", "under"], "Word": ["text"], "Wave": ["terms"], "Circuit": ["text"]}
+
+FUNCTIONS = {
+    "spreads": {"spread": ["circuit", "word"]},
+    "likeness": {"same": ["one", "other"], "shows_same": ["one", "other", "value"]},
+    "seeing": {
+        "hidden": ["circuit"], "seen": ["circuit"], "shifted": ["circuit", "shift"],
+        "shows_shifted": ["circuit", "shift", "value"], "parts": ["circuit", "knob"], "hangs": ["circuit", "word"],
+    },
+    "layers": {
+        "turned": ["circuit"], "layers": ["circuit"], "shows_layers": ["circuit", "value"], "packed": ["circuit", "most"],
+        "shows_packed": ["circuit", "most", "value"], "laid": ["circuit", "rows"], "plain": ["circuit"],
+    },
+    "keeping": {"kept": ["circuit"], "bound": ["circuit"]},
+}
+
+OBJECTS = (
+    (Ratio(2, 4), ("number", "under", "text")),
+    (Word("-X"), ("text", "letters", "sign")),
+    (Wave(()), ("terms", "knobs")),
+    (Circuit("wires 1"), ("text", "wires", "knobs", "turns", "still")),
+    (spread(Circuit("wires 1"), Word("X")), ("terms", "knobs")),
 )
 
 
+def body_of(module):
+    return ast.parse((ROOT / "looseknobs" / (module + ".py")).read_text()).body
+
+
+def parameters(told):
+    return list(inspect.signature(told).parameters)
+
+
 class InterfaceTest(unittest.TestCase):
-    def test_defined_in_its_file(self):
+    def test_classes_and_methods_are_defined_in_their_files(self):
         for module, classes in CLASSES.items():
-            tree = ast.parse((ROOT / "looseknobs" / (module + ".py")).read_text())
-            found = {node.name: node for node in tree.body if isinstance(node, ast.ClassDef)}
+            found = {node.name: node for node in body_of(module) if isinstance(node, ast.ClassDef)}
             for name, methods in classes.items():
                 self.assertIn(name, found)
-                self.assertEqual(getattr(importlib.import_module("looseknobs." + module), name).__name__, name)
+                made = getattr(importlib.import_module("looseknobs." + module), name)
                 own = [node.name for node in found[name].body if isinstance(node, ast.FunctionDef)]
-                for method in methods:
+                for method, names in methods.items():
                     self.assertIn(method, own)
+                    self.assertEqual([one for one in parameters(getattr(made, method)) if one != "self"], names)
+                if name in MADE:
+                    self.assertEqual(parameters(made), MADE[name])
 
-    def test_parameters(self):
-        for told, names in PARAMETERS:
-            self.assertEqual(list(inspect.signature(told).parameters), names)
+    def test_functions_are_defined_in_their_files(self):
+        for module, functions in FUNCTIONS.items():
+            found = [node.name for node in body_of(module) if isinstance(node, ast.FunctionDef)]
+            for name, names in functions.items():
+                self.assertIn(name, found)
+                self.assertEqual(parameters(getattr(importlib.import_module("looseknobs." + module), name)), names)
 
     def test_attributes(self):
-        for made, names in ((Ratio(2, 4), ("number", "under", "text")), (Word("-X"), ("text", "letters", "sign"))):
+        for made, names in OBJECTS:
             for name in names:
                 self.assertTrue(hasattr(made, name))
                 self.assertFalse(callable(getattr(made, name)))

@@ -104,6 +104,68 @@ class LanguageTest(unittest.TestCase):
             if isinstance(node, ast.Constant) and isinstance(node.value, str) and "\n" not in node.value:
                 self.assertNotIn("%", node.value, name)
 
+    def test_steps_of_reckoning(self):
+        # Ratios have an order and an addition of their own: see L5.
+        for name, node in nodes():
+            if isinstance(node, ast.AugAssign):
+                self.assertIsInstance(node.value, ast.Constant, (name, node.lineno))
+                self.assertIsInstance(node.value.value, int, (name, node.lineno))
+            if isinstance(node, ast.BinOp) and isinstance(node.op, ast.Pow):
+                self.fail((name, node.lineno))
+
+    def test_calls(self):
+        for name, node in nodes():
+            if isinstance(node, ast.Call):
+                called = node.func.id if isinstance(node.func, ast.Name) else getattr(node.func, "attr", "")
+                self.assertNotIn(called, ("sorted", "min", "sort", "chr"), (name, node.lineno))
+                if called == "max":
+                    kept = node.args[0].elt if isinstance(node.args[0], ast.ListComp) else node.args[0]
+                    self.assertEqual(kept.func.id, "int", (name, node.lineno))
+                if called in ("any", "all", "sum", "max"):
+                    self.assertIsInstance(node.args[0], ast.ListComp, (name, node.lineno))
+                if called == "set":
+                    self.assertEqual(len(node.args), 1, (name, node.lineno))
+                for argument in node.args:
+                    if isinstance(argument, ast.Starred):
+                        self.assertIsInstance(argument.value, ast.Name, (name, node.lineno))
+            self.assertNotIsInstance(node, (ast.GeneratorExp, ast.Yield, ast.YieldFrom, ast.Lambda), name)
+
+    def test_names(self):
+        barred = ("_wall", "_pe_", "_dcw_", "_enum_", "_cm_", "_twin_re_", "_lay_", "_law_", "_stub_", "_sre")
+        for name, node in nodes():
+            told = getattr(node, "name", None) or getattr(node, "id", None) or getattr(node, "arg", None)
+            if isinstance(told, str):
+                self.assertFalse(told.startswith(barred), (name, told))
+                self.assertNotIn(told, ("register", "mro", "elements", "open", "input", "law"), name)
+
+    def test_imports_are_used_and_go_one_way(self):
+        ahead = {}
+        for path in files():
+            tree = ast.parse(path.read_text())
+            used = {node.id for node in ast.walk(tree) if isinstance(node, ast.Name)}
+            for node in tree.body:
+                if isinstance(node, ast.ImportFrom):
+                    for one in node.names:
+                        self.assertIn(one.name, used, path.name)
+                        self.assertIsNone(one.asname)
+                    ahead.setdefault(path.stem, set()).add(node.module.split(".")[-1])
+        done = set()
+        while len(done) < len(files()):
+            more = {path.stem for path in files() if ahead.get(path.stem, set()) & {p.stem for p in files()} <= done} - done
+            self.assertTrue(more, "imports go round")
+            done |= more
+
+    def test_locals_have_no_names_of_imports_and_classes(self):
+        for path in files():
+            tree = ast.parse(path.read_text())
+            taken = {one.name for node in tree.body if isinstance(node, ast.ImportFrom) for one in node.names}
+            taken |= {node.name for node in tree.body if isinstance(node, ast.ClassDef)}
+            for node in ast.walk(tree):
+                if isinstance(node, ast.Name) and isinstance(node.ctx, ast.Store):
+                    self.assertNotIn(node.id, taken, path.name)
+                if isinstance(node, ast.arg):
+                    self.assertNotIn(node.arg, taken, path.name)
+
 
 if __name__ == "__main__":
     unittest.main()

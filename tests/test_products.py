@@ -1,21 +1,11 @@
 """Products, bends and passing of words: section 5, worked out anew here."""
 
-import doctest
 import itertools
 import unittest
 
 from looseknobs.errors import BadWord, Crossing, OtherSize, Passing
 from looseknobs.ratios import Ratio
 from looseknobs.words import Word
-
-EXAMPLES = """
->>> from looseknobs.words import Word
->>> xx, zz, zi = Word('XX'), Word('ZZ'), Word('ZI')
->>> [xx.passes(zz), xx.passes(zi), (xx * zz).text, zi.bent(xx).text, xx.bent(zi).text, (zi * Word('-IZ')).text]
-[True, False, '-YY', '-YX', 'YX', '-ZZ']
->>> [one.bent(other).text for one, other in ((Word('X'), Word('Y')), (Word('Z'), Word('X')), (Word('X'), Word('Z')))]
-['-Z', '-Y', 'Y']
-"""
 
 NO_WORDS = (None, 0, 1, True, "X", "XX", "", ("XX",), ["XX"], {}, Ratio(1), Ratio(1, 2))
 
@@ -75,13 +65,6 @@ def matrix(word, factor=1):
     for sign in word.letters:
         whole = beside(whole, MATRICES[sign])
     return [[complex(number) for number in row] for row in whole]
-
-
-class ExamplesTest(unittest.TestCase):
-    def test_of_the_document(self):
-        test = doctest.DocTestParser().get_doctest(EXAMPLES, {}, "section 5", None, 0)
-        told = doctest.DocTestRunner(verbose=False).run(test)
-        self.assertEqual((told.failed, told.attempted), (0, 4))
 
 
 class RuleTest(unittest.TestCase):

@@ -1,0 +1,52 @@
+"""Angles at which a part of a sum is not 0: how what is unlike is shown."""
+
+from looseknobs.angles import many_times
+from looseknobs.ratios import Ratio
+
+
+def difference(one, other):
+    """The part that one part of a sum is less another one."""
+    made = {}
+    for row in [*one, *[row for row in other if row not in one]]:
+        a, b = one.get(row, (0, 0))
+        c, d = other.get(row, (0, 0))
+        if a != c or b != d:
+            made[row] = (a - c, b - d)
+    return made
+
+
+# What is left of a part when a knob has an angle can be 0 for not more angles
+# than twice the greatest number of times that this knob goes round in it, and
+# no two fractions give the same angle: so the search ends for each knob.
+def parted_at(part, knobs):
+    """A setting of just these knobs at which this part, in which rows are left, is not 0."""
+    setting = []
+    for knob in knobs:
+        tried = 0
+        left = _left(part, _angle(tried))
+        while len(left) == 0:
+            tried += 1
+            left = _left(part, _angle(tried))
+        part = left
+        a, b, d = _angle(tried)
+        setting.append((knob, Ratio(a, d), Ratio(b, d)))
+    return tuple(setting)
+
+
+def _angle(tried):
+    """The angle whose half has this integer as its tangent."""
+    return 1 - tried * tried, 2 * tried, 1 + tried * tried
+
+
+# All numbers are multiplied by one power of d, so that they stay integers.
+def _left(part, angle):
+    """What is left of a part if the first one of its knobs has this angle."""
+    most = max([int(abs(row[0])) for row in part])
+    made = {}
+    for row in part:
+        a, b, d = many_times(angle, row[0])
+        scale = many_times((angle[2], 0, 1), most - abs(row[0]))[0]
+        c, e = part[row]
+        old = made.get(row[1:], (0, 0))
+        made[row[1:]] = (old[0] + (a * c - b * e) * scale, old[1] + (a * e + b * c) * scale)
+    return {row: made[row] for row in made if made[row][0] != 0 or made[row][1] != 0}
