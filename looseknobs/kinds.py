@@ -23,4 +23,4 @@ def is_row(value, many):
 
 def is_told(value, row):
     """Whether this is just this tuple of strings."""
-    return is_row(value, len(row)) and all([isinstance(text, str) for text in value]) and value == row
+    return isinstance(value, tuple) and value == row

@@ -1,13 +1,14 @@
 """Angles at which a part of a sum is not 0: how what is unlike is shown."""
 
 from looseknobs.angles import many_times
+from looseknobs.lattices import sum_of_products
 from looseknobs.ratios import Ratio
 
 
 def difference(one, other):
     """The part that one part of a sum is less another one."""
     made = {}
-    for row in [*one, *[row for row in other if row not in one]]:
+    for row in [*one, *[further for further in other if further not in one]]:
         a, b = one.get(row, (0, 0))
         c, d = other.get(row, (0, 0))
         if a != c or b != d:
@@ -15,9 +16,27 @@ def difference(one, other):
     return made
 
 
+# Here and below, all numbers are multiplied by one power of d, so that they stay integers.
+def change(part, shift, angle):
+    """What a part of a sum rises by if the knobs are turned on by so many times this angle."""
+    times = {row: sum_of_products(row, shift) for row in part}
+    most = max([int(abs(times[row])) for row in part])
+    whole = many_times((angle[2], 0, 1), most)[0]
+    made = {}
+    for row in part:
+        a, b, d = many_times(angle, times[row])
+        scale = whole // d
+        c, e = part[row]
+        a = a * scale - whole
+        b = b * scale
+        if a * c - b * e != 0 or a * e + b * c != 0:
+            made[row] = (a * c - b * e, a * e + b * c)
+    return made
+
+
 # What is left of a part when a knob has an angle can be 0 for not more angles
 # than twice the greatest number of times that this knob goes round in it, and
-# no two fractions give the same angle: so the search ends for each knob.
+# no two that are tried are the same angle: so the search ends for each knob.
 def parted_at(part, knobs):
     """A setting of just these knobs at which this part, in which rows are left, is not 0."""
     setting = []
@@ -38,7 +57,6 @@ def _angle(tried):
     return 1 - tried * tried, 2 * tried, 1 + tried * tried
 
 
-# All numbers are multiplied by one power of d, so that they stay integers.
 def _left(part, angle):
     """What is left of a part if the first one of its knobs has this angle."""
     most = max([int(abs(row[0])) for row in part])

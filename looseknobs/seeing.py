@@ -7,7 +7,7 @@ from looseknobs.errors import BadShift, NoKnob
 from looseknobs.kinds import is_row, is_told, is_whole
 from looseknobs.lattices import level_rows, sum_of_products
 from looseknobs.leading import first_words
-from looseknobs.parting import parted_at
+from looseknobs.parting import change, parted_at
 from looseknobs.ratios import Ratio
 from looseknobs.sequences import ascending
 from looseknobs.spreads import spread
@@ -40,7 +40,7 @@ def shifted(circuit, shift):
     for angle in (QUARTER, ENDLESS):
         for letters, found in zip(words, sums):
             for place in ascending(list(found)):
-                part = _change(found[place], shift, angle)
+                part = change(found[place], shift, angle)
                 if len(part) > 0:
                     a, b, d = angle
                     return "seen", parted_at(part, circuit.knobs), Ratio(a, d), Ratio(b, d), Word(letters)
@@ -97,21 +97,3 @@ def _need_shift(circuit, shift):
 
 def _hides(circuit, shift):
     return all([sum_of_products(row, shift) == 0 for row in _rounds(circuit)])
-
-
-# All numbers are multiplied by one power of d, so that they stay integers.
-def _change(part, shift, angle):
-    """What a part of a sum rises by if the knobs are turned on by so many times this angle."""
-    times = {row: sum_of_products(row, shift) for row in part}
-    most = max([int(abs(times[row])) for row in part])
-    whole = many_times((angle[2], 0, 1), most)[0]
-    made = {}
-    for row in part:
-        a, b, d = many_times(angle, times[row])
-        scale = whole // d
-        c, e = part[row]
-        a = a * scale - whole
-        b = b * scale
-        if a * c - b * e != 0 or a * e + b * c != 0:
-            made[row] = (a * c - b * e, a * e + b * c)
-    return made

@@ -198,6 +198,8 @@ class PackedTest(unittest.TestCase):
         self.assertIs(shows_packed(ROW, 1, (2, rows)), False)
         self.assertIs(shows_packed(ROW, 1, (3, ((0,), (1,), (2,)))), True)
         self.assertIs(shows_packed(ROW, 1, (3, ((0,), (2,), (1,)))), True)
+        self.assertIs(shows_packed(ROW, 2, (2, ((0,), (1,), (2,)))), False)
+        self.assertIs(shows_packed(ROW, 1, (3, rows)), False)
         self.assertIs(shows_packed(Circuit("wires 1\nturn X by 1 k"), 1, (True, ((0,),))), False)
         self.assertIs(shows_packed(Circuit("wires 1"), 3, (0, ())), True)
         self.assertIs(shows_packed(Circuit("wires 1"), 3, (False, ())), False)

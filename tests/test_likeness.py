@@ -215,6 +215,19 @@ class ApartTest(LikenessTest):
             self.is_apart(one, other)
             self.is_apart(other, one)
 
+    def test_unlike_only_where_several_knobs_are_at_no_quarter(self):
+        for lines in (
+            ["turn X by 4 a", "turn Z by 4 b", "turn X by -4 a", "turn Z by -4 b"],
+            ["turn X by 4 a", "turn Z by 4 b", "turn X by -4 a", "turn Y by 4 c", "turn X by 4 a", "turn Y by -4 c"],
+            ["turn X by 4 a 4 b 4 c", "turn Z by 4 a -4 b", "turn X by -4 a -4 b -4 c", "turn Z by -4 a 4 b"],
+            ["turn X by 4 a", "turn X by 4 a", "turn X by 4 a", "turn X by 4 a", "turn X by 4 a", "turn X by 4 a"],
+        ):
+            circuit = Circuit("\n".join(["wires 1"] + lines))
+            for other in (Circuit("wires 1"), Circuit("wires 1\nturn Z by 4 z"), ~circuit):
+                if other != circuit:
+                    self.is_apart(circuit, other)
+                    self.is_apart(other, circuit)
+
     def test_other_knobs(self):
         one, other = Circuit("wires 1\nturn X by 1 k"), Circuit("wires 1\nturn X by 1 m")
         self.is_apart(one, other)

@@ -79,6 +79,21 @@ class ShiftsTest(unittest.TestCase):
         for shift in ((1,), (2,), (-3,), (99,), (-99,)):
             self.is_seen(circuit, shift, shifted(circuit, shift))
 
+    def test_seen_only_where_another_knob_is_at_no_quarter(self):
+        for lines in (
+            ["turn X by 1 a", "turn Z by 4 b", "turn X by -1 a"],
+            ["turn X by 4 a", "turn Z by 4 b", "turn X by -4 a"],
+            ["turn X by 4 a 4 b", "turn Z by 4 b -4 c", "turn X by -4 a -4 b"],
+            ["turn X by 2 a", "turn Z by 4 b", "turn X by -2 a", "turn Y by 4 c", "turn X by 2 a", "turn Z by -4 b"],
+        ):
+            circuit = Circuit("\n".join(["wires 1"] + lines))
+            many = len(circuit.knobs)
+            for at in range(many):
+                for times in (1, -1, 2, 3, 4, 12, 99):
+                    shift = tuple(times * int(at == place) for place in range(many))
+                    self.is_seen(circuit, shift, shifted(circuit, shift))
+            self.is_seen(circuit, (1,) * many, shifted(circuit, (1,) * many))
+
     def test_bounds(self):
         self.assertEqual(shifted(Circuit("wires 1"), ()), HIDDEN)
         self.assertEqual(shifted(Circuit("wires 1\nturn X by 1 a\nturn X by -1 a"), (99,)), HIDDEN)
