@@ -2,7 +2,7 @@
 
 from looseknobs.leading import led_through
 from looseknobs.sums import fixed_steps, led_sum
-from looseknobs.words import LETTERS, Word, signed_text
+from looseknobs.words import Word, all_letters, signed_text
 
 
 def kept(circuit):
@@ -16,19 +16,11 @@ def bound(circuit):
     """(letters, Word) for all Words that hang on no knob, with what they are led back to."""
     fixed = fixed_steps(circuit)
     found = []
-    for letters in _all_letters(circuit.wires):
+    for letters in all_letters(circuit.wires)[1:]:
         if _hangs_on_none(circuit, letters):
             made, sign = led_through(fixed, letters, 1)
             found.append((letters, Word(signed_text(made, sign))))
     return tuple(found)
-
-
-def _all_letters(wires):
-    """The letters of all words over so many wires, not all I, ascending."""
-    rows = [""]
-    for _ in range(wires):
-        rows = [row + letter for row in rows for letter in LETTERS]
-    return rows[1:]
 
 
 def _hangs_on_none(circuit, letters):

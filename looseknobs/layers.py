@@ -4,9 +4,9 @@ from looseknobs.circuits import Circuit
 from looseknobs.errors import BadNumber, BadRows
 from looseknobs.forms import joined, turned_back
 from looseknobs.kinds import is_row, is_whole
-from looseknobs.leading import first_words, led_through, pass_by
+from looseknobs.leading import pass_by
 from looseknobs.sequences import rises
-from looseknobs.sums import beginnings, fixed_steps
+from looseknobs.sums import beginnings, fixed_images
 from looseknobs.words import Word, signed_text
 
 MOST_IN_LAYER = 6
@@ -74,10 +74,7 @@ def laid(circuit, rows):
 def plain(circuit):
     """(rows, words): the turns, led to the beginning, and what the fixed lines do, told in one way."""
     rows = [(letters, form if sign > 0 else turned_back(form)) for letters, sign, form in beginnings(circuit)]
-    fixed = fixed_steps(circuit)
-    images = [led_through(fixed, letters, 1) for letters in first_words(circuit.wires)]
-    words = tuple([Word(signed_text(letters, sign)) for letters, sign in images])
-    return _first_sequence(_put_together(rows)), words
+    return _first_sequence(_put_together(rows)), fixed_images(circuit)
 
 
 def _all_ahead(circuit):

@@ -3,6 +3,16 @@
 from looseknobs.angles import many_times
 from looseknobs.lattices import sum_of_products
 from looseknobs.ratios import Ratio
+from looseknobs.sequences import ascending
+
+
+def first_parted(found, wanted, knobs):
+    """(letters, setting): where two sums are unlike, and a setting at which they are so; None if they are alike."""
+    for letters in ascending([*found, *wanted]):
+        part = difference(found.get(letters, {}), wanted.get(letters, {}))
+        if len(part) > 0:
+            return letters, parted_at(part, knobs)
+    return None
 
 
 def difference(one, other):

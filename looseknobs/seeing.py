@@ -11,7 +11,7 @@ from looseknobs.parting import change, parted_at
 from looseknobs.ratios import Ratio
 from looseknobs.sequences import ascending
 from looseknobs.spreads import spread
-from looseknobs.sums import first_sums, led_at
+from looseknobs.sums import first_sums, led_at, rows_in
 from looseknobs.words import Word, is_word_of
 
 GREATEST_SHIFT = 99
@@ -84,8 +84,7 @@ def hangs(circuit, word):
 # If the first words come to the same, all do.
 def _rounds(circuit):
     """The rows that stand in any sum of the first words."""
-    sums = first_sums(circuit, circuit.knobs)
-    return list({row: True for found in sums for letters in found for row in found[letters]})
+    return rows_in(first_sums(circuit, circuit.knobs))
 
 
 def _need_shift(circuit, shift):

@@ -1,11 +1,11 @@
 """What a word behind a circuit is led back to."""
 
 from looseknobs.angles import angles_of, is_setting
-from looseknobs.errors import BadSetting, BadWord, OtherSize
+from looseknobs.errors import BadSetting, BadWord
 from looseknobs.sequences import ascending
 from looseknobs.sums import SCALE, led_sum
 from looseknobs.waves import Wave, need_angles, told_wave
-from looseknobs.words import Word, are_letters
+from looseknobs.words import are_letters, need_word
 
 
 class Spread:
@@ -42,17 +42,9 @@ class Spread:
 
 def spread(circuit, word):
     """To what this Word, behind the circuit, is led back."""
-    need_word(circuit, word)
+    need_word(word, circuit.wires)
     found = led_sum(circuit, word.letters, word.sign, circuit.knobs)
     return Spread(circuit.wires, {letters: _wave(found[letters], circuit.knobs) for letters in found})
-
-
-def need_word(circuit, word):
-    """Refuse what is no Word of as many wires."""
-    if not isinstance(word, Word):
-        raise BadWord(word)
-    if len(word) != circuit.wires:
-        raise OtherSize(word)
 
 
 # A row and its contrary have numbers of which one is as the other, with the

@@ -17,6 +17,7 @@ from looseknobs.angles import angle_of
 from looseknobs.leading import bent, first_words, led_through, pass_by
 from looseknobs.lines import MOST_TURNS, is_turn
 from looseknobs.ratios import Ratio
+from looseknobs.words import Word, signed_text
 
 SCALE = 64
 
@@ -39,12 +40,28 @@ def fixed_steps(circuit):
     return [step for step in circuit.steps if not is_turn(step)]
 
 
+def fixed_images(circuit):
+    """The Words to which the fixed lines lead back X at wire 0, Z at wire 0, X at wire 1, and so on."""
+    fixed = fixed_steps(circuit)
+    images = [led_through(fixed, letters, 1) for letters in first_words(circuit.wires)]
+    return tuple([Word(signed_text(letters, sign)) for letters, sign in images])
+
+
 def led_sum(circuit, letters, sign, knobs):
     """To what this word is led back at all angles, with a place for each of these knobs."""
+    return led_words(circuit, {letters: sign}, knobs)
+
+
+def led_words(circuit, signs, knobs):
+    """To what the sum of words is led back that is told by a dict of letters and signs."""
     turns = beginnings(circuit)
-    letters, sign = led_through(fixed_steps(circuit), letters, sign)
+    fixed = fixed_steps(circuit)
     nowhere = tuple([0 for _ in knobs])
-    found = {letters: {nowhere: (sign * (1 << (MOST_TURNS - len(turns))), 0)}}
+    whole = 1 << (MOST_TURNS - len(turns))
+    found = {}
+    for letters in signs:
+        made, sign = led_through(fixed, letters, signs[letters])
+        found[made] = {nowhere: (sign * whole, 0)}
     for about, turned, form in turns[::-1]:
         many = dict(form)
         row = tuple([many.get(knob, 0) * turned for knob in knobs])
@@ -55,6 +72,11 @@ def led_sum(circuit, letters, sign, knobs):
 def first_sums(circuit, knobs):
     """The sums of X at wire 0, Z at wire 0, X at wire 1, and so on: they tell those of all words."""
     return [led_sum(circuit, letters, 1, knobs) for letters in first_words(circuit.wires)]
+
+
+def rows_in(sums):
+    """The rows that stand in any of these sums."""
+    return list({row: True for found in sums for letters in found for row in found[letters]})
 
 
 def led_at(circuit, word, angles):

@@ -54,10 +54,7 @@ class Word:
 
     def passes(self, other):
         """Whether both pass one another."""
-        if not isinstance(other, Word):
-            raise BadWord(other)
-        if len(other.letters) != len(self.letters):
-            raise OtherSize(other)
+        need_word(other, len(self.letters))
         return quarters(self.letters, other.letters) % 2 == 0
 
     def _beside(self, other, turned):
@@ -68,6 +65,14 @@ class Word:
         return Word(signed_text(made_letters(self.letters, other.letters), sign))
 
 
+def need_word(value, wires):
+    """Refuse what is no Word of so many wires."""
+    if not isinstance(value, Word):
+        raise BadWord(value)
+    if len(value.letters) != wires:
+        raise OtherSize(value)
+
+
 def is_word_of(value, wires):
     """Whether this is a Word of so many wires."""
     return isinstance(value, Word) and len(value) == wires
@@ -76,6 +81,14 @@ def is_word_of(value, wires):
 def are_letters(text):
     """Whether this string is one to four of the letters I, X, Y, Z."""
     return 1 <= len(text) <= MOST_WIRES and all([letter in LETTERS for letter in text])
+
+
+def all_letters(wires):
+    """The letters of all words over so many wires, ascending: all I is the first one."""
+    rows = [""]
+    for _ in range(wires):
+        rows = [row + letter for row in rows for letter in LETTERS]
+    return rows
 
 
 def signed_text(letters, sign):

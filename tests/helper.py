@@ -379,3 +379,142 @@ def all_letters(wires):
 
 def first_words(wires):
     return [at(wires, (wire, letter)) for wire in range(wires) for letter in "XZ"]
+
+
+def lines_of(circuit):
+    return circuit.text.split("\n")[1:]
+
+
+def with_lines(wires, lines):
+    return Circuit("\n".join([f"wires {wires}"] + list(lines)))
+
+
+# Starts: any Z-like words, led through drawn fixed lines.
+
+def some_start(rng, wires, many=None):
+    """The texts of drawn words that make a start; as many as told, or as wires."""
+    fixed = "\n".join([f"wires {wires}"] + [some_fixed(rng, wires) for _ in range(8)])
+    found = []
+    for wire in rng.sample(range(wires), many or wires):
+        ((letters, sign),) = back(fixed, at(wires, (wire, "Z"))).items()
+        found.append(("" if sign * rng.choice((1, -1)) > 0 else "-") + letters)
+    return found
+
+
+def products(words):
+    """What all products of these words are: a dict of letters and signs."""
+    rows = [(1, "I" * len(signed(words[0])[1]))]
+    for word in words:
+        rows = rows + [times(row, signed(word)) for row in rows]
+    return {letters: sign for sign, letters in rows}
+
+
+def mean_at(text, words, word, angles=()):
+    """What is read for a word at these angles, from a start with these words."""
+    signs = products(words)
+    return sum((number * signs.get(letters, 0) for letters, number in back(text, word, angles).items()), Fraction(0))
+
+
+# Whole-number clearing.
+
+def cleared(vectors, size):
+    """A whole-number clearing: rows whose sums are all that make 0 with each vector, told in the one way."""
+    rows = [[vector[at] for vector in vectors] + [int(at == place) for place in range(size)] for at in range(size)]
+    kept = echelon(rows, len(vectors) + size)
+    rows = [row[len(vectors):] for row in kept if not any(row[: len(vectors)])]
+    return tuple(tuple(row) for row in echelon(rows, size))
+
+
+def echelon(rows, width):
+    rows = [list(row) for row in rows]
+    top = 0
+    for column in range(width):
+        while True:
+            below = sorted((abs(row[column]), at) for at, row in enumerate(rows) if at >= top and row[column])
+            if not below:
+                break
+            least = below[0][1]
+            rows[top], rows[least] = rows[least], rows[top]
+            if rows[top][column] < 0:
+                rows[top] = [-n for n in rows[top]]
+            for at, row in enumerate(rows):
+                if at != top and (at > top or len(below) == 1):
+                    times = row[column] // rows[top][column]
+                    rows[at] = [a - times * b for a, b in zip(row, rows[top])]
+            if len(below) == 1:
+                top += 1
+                break
+    return rows
+
+
+def is_sum(row, rows):
+    """Whether this row is a sum of multiples of rows that are told in the one way."""
+    for other in rows:
+        place = next(at for at, n in enumerate(other) if n != 0)
+        times, rest = divmod(row[place], other[place])
+        if rest:
+            return False
+        row = tuple(a - times * b for a, b in zip(row, other))
+    return not any(row)
+
+
+# Wires and knobs exchanged for others, and turns left out.
+
+def exchanged_wires(circuit, places):
+    """The circuit over other wires: what was at wire a is at wire places[a]; and how words are exchanged."""
+    def word(text):
+        sign, letters = signed(text)
+        row = [""] * len(letters)
+        for place, letter in enumerate(letters):
+            row[places[place]] = letter
+        return ("-" if sign < 0 else "") + "".join(row)
+
+    lines = []
+    for line in lines_of(circuit):
+        name, *rest = line.split(" ")
+        if name in ("flip", "quarter", "turn"):
+            rest[0] = word(rest[0])
+        else:
+            rest = [str(places[int(wire)]) for wire in rest]
+        lines.append(" ".join([name] + rest))
+    return with_lines(circuit.wires, lines), word
+
+
+def renamed(circuit, names):
+    lines = []
+    for line in lines_of(circuit):
+        row = line.split(" ")
+        if row[0] == "turn":
+            row[4::2] = [names[knob] for knob in row[4::2]]
+        lines.append(" ".join(row))
+    return with_lines(circuit.wires, lines)
+
+
+def renamed_wave(wave, names):
+    total = Wave(())
+    for turns, c, s in wave.terms:
+        told = tuple(sorted((names[knob], many) for knob, many in turns))
+        if told and told[0][1] < 0:
+            told, s = tuple((knob, -many) for knob, many in told), -s
+        total = total + Wave(((told, c, s),))
+    return total
+
+
+def groups(circuit):
+    """Rows of numbers of lines, with their knobs: turns that share knobs stand in one row."""
+    rows = []
+    for number in circuit.turns:
+        knobs = {knob for knob, many in form_of(circuit[number])}
+        near = [row for row in rows if row[1] & knobs]
+        rows = [row for row in rows if not row[1] & knobs]
+        rows.append((sum([row[0] for row in near], []) + [number], knobs.union(*[row[1] for row in near])))
+    return rows
+
+
+def left_out(circuit, knobs):
+    """The circuit without the turns that have any of these knobs."""
+    lines = [
+        line for line in lines_of(circuit)
+        if not (line.startswith("turn ") and {knob for knob, many in form_of(line)} & knobs)
+    ]
+    return with_lines(circuit.wires, lines)

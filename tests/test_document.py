@@ -64,6 +64,23 @@ True
 >>> from looseknobs.keeping import bound, kept
 >>> [kept(ladder), kept(row), [(letters, word.text) for letters, word in bound(Circuit('wires 1\nflip X\nturn Z by 1 k'))]]
 [('IZ', 'XX', 'XY', 'YX', 'YY', 'ZI', 'ZZ'), (), [('Z', '-Z')]]
+
+>>> from looseknobs.starts import alike_from, hangs_from, hidden_from, mean, Start
+>>> nought = Start((zi, Word('IZ')))
+>>> [nought.sign_of(zz), nought.sign_of(Word('-ZI')), nought.sign_of(xx), nought.like(Start((Word('ZZ'), Word('IZ'))))]
+[1, -1, 0, True]
+>>> rise = Circuit('wires 2\nturn IZ by 1 n\nturn XI by 1 k\ncx 0 1\nturn ZZ by 1 m')
+>>> [mean(rise, nought, zi).terms, mean(rise, nought, zz).terms, hidden_from(rise, nought), hidden(rise)]
+[(((('k', 1),), Ratio(1), Ratio(0)),), (((), Ratio(1), Ratio(0)),), ((0, 1, 0), (0, 0, 1)), ((0, 1, -1),)]
+>>> [hangs_from(rise, nought, Word('YX')), alike_from(rise, rise.without(3).without(0), nought), same(rise, rise.without(3))[0]]
+[('k',), ('same',), 'apart']
+
+>>> from looseknobs.tables import behind, gates, Table, table_of
+>>> bell = table_of(Circuit('wires 2\nh 0\ncx 0 1'))
+>>> [[word.text for word in bell.images], bell.back(Word('-YY')).text, (bell * ~bell).back(zz) == zz, table_of(gates(bell)) == bell]
+[['ZX', 'XI', 'IX', 'XZ'], 'ZZ', True, True]
+>>> [behind(row, row.without(1)) == table_of(Circuit('wires 2\nh 0')), behind(row, row * Circuit('wires 2\nflip XZ')).back(xx).text, behind(row, mixer)]
+[False, '-XX', None]
 """
 
 

@@ -4,24 +4,16 @@ import random
 import unittest
 
 import helper
+from helper import lines_of, with_lines
 from looseknobs.circuits import Circuit
 from looseknobs.keeping import bound, kept
 from looseknobs.layers import layers, packed, plain, turned
 from looseknobs.likeness import same
 from looseknobs.seeing import hangs, hidden, parts, seen
 from looseknobs.spreads import spread
-from looseknobs.waves import Wave
 from looseknobs.words import Word
 
 SAME = ("same",)
-
-
-def lines_of(circuit):
-    return circuit.text.split("\n")[1:]
-
-
-def with_lines(wires, lines):
-    return Circuit("\n".join([f"wires {wires}"] + lines))
 
 
 class KnobsByThemselvesTest(unittest.TestCase):
@@ -73,30 +65,11 @@ class NamesTest(unittest.TestCase):
         self.rng = random.Random(152)
         self.drawn = [circuit for circuit in helper.some_circuits(153, 60, turns=4) if circuit.wires > 1]
 
-    def exchanged_wires(self, circuit, places):
-        """The circuit over other wires: what was at wire a is at wire places[a]."""
-        def word(text):
-            sign, letters = helper.signed(text)
-            row = [""] * len(letters)
-            for at, letter in enumerate(letters):
-                row[places[at]] = letter
-            return ("-" if sign < 0 else "") + "".join(row)
-
-        lines = []
-        for line in lines_of(circuit):
-            name, *rest = line.split(" ")
-            if name in ("flip", "quarter", "turn"):
-                rest[0] = word(rest[0])
-            else:
-                rest = [str(places[int(wire)]) for wire in rest]
-            lines.append(" ".join([name] + rest))
-        return with_lines(circuit.wires, lines), word
-
     def test_wires(self):
         for circuit in self.drawn:
             places = list(range(circuit.wires))
             self.rng.shuffle(places)
-            other, word = self.exchanged_wires(circuit, places)
+            other, word = helper.exchanged_wires(circuit, places)
             self.assertEqual(hidden(other), hidden(circuit))
             self.assertEqual([parts(other, knob) for knob in circuit.knobs], [parts(circuit, knob) for knob in circuit.knobs])
             self.assertEqual([(word(w.text), p) for w, p in turned(circuit)], [(w.text, p) for w, p in turned(other)])
@@ -110,21 +83,12 @@ class NamesTest(unittest.TestCase):
                 self.assertEqual(tuple(waves), spread(other, Word(word(letters))).terms)
                 self.assertEqual(hangs(circuit, Word(letters)), hangs(other, Word(word(letters))))
             changed = circuit * Circuit(f"wires {circuit.wires}\nturn {'X' * circuit.wires} by 1 a")
-            self.assertEqual(same(circuit, changed)[0], same(other, self.exchanged_wires(changed, places)[0])[0])
-
-    def renamed(self, circuit, names):
-        lines = []
-        for line in lines_of(circuit):
-            row = line.split(" ")
-            if row[0] == "turn":
-                row[4::2] = [names[knob] for knob in row[4::2]]
-            lines.append(" ".join(row))
-        return with_lines(circuit.wires, lines)
+            self.assertEqual(same(circuit, changed)[0], same(other, helper.exchanged_wires(changed, places)[0])[0])
 
     def test_knobs(self):
         names = {"a": "z", "b": "turn", "c": "b", "d": "by"}
         for circuit in self.drawn:
-            other = self.renamed(circuit, names)
+            other = helper.renamed(circuit, names)
             self.assertEqual(tuple(sorted(names[knob] for knob in circuit.knobs)), other.knobs)
             self.assertEqual(seen(circuit), seen(other))
             self.assertEqual({names[knob]: parts(circuit, knob) for knob in circuit.knobs}, {knob: parts(other, knob) for knob in other.knobs})
@@ -138,57 +102,22 @@ class NamesTest(unittest.TestCase):
             for row in hidden(circuit):
                 told = dict(zip([names[knob] for knob in circuit.knobs], row))
                 found = {knob: told[knob] for knob in other.knobs}
-                self.assertTrue(self.is_sum(tuple(found.values()), hidden(other)))
+                self.assertTrue(helper.is_sum(tuple(found.values()), hidden(other)))
             for letters in helper.all_letters(circuit.wires)[::7]:
                 told = hangs(circuit, Word(letters))
                 self.assertEqual(sorted(names[knob] for knob in told), list(hangs(other, Word(letters))))
-                waves = [(place, self.renamed_wave(wave, names)) for place, wave in spread(circuit, Word(letters)).terms]
+                waves = [(place, helper.renamed_wave(wave, names)) for place, wave in spread(circuit, Word(letters)).terms]
                 self.assertEqual(tuple(waves), spread(other, Word(letters)).terms)
-
-    def renamed_wave(self, wave, names):
-        total = Wave(())
-        for turns, c, s in wave.terms:
-            told = tuple(sorted((names[knob], many) for knob, many in turns))
-            if told and told[0][1] < 0:
-                told, s = tuple((knob, -many) for knob, many in told), -s
-            total = total + Wave(((told, c, s),))
-        return total
-
-    def is_sum(self, row, rows):
-        for other in rows:
-            place = next(at for at, n in enumerate(other) if n != 0)
-            times, rest = divmod(row[place], other[place])
-            if rest:
-                return False
-            row = tuple(a - times * b for a, b in zip(row, other))
-        return not any(row)
 
 
 class WithoutTest(unittest.TestCase):
     """Guarantee (e)."""
 
-    def groups(self, circuit):
-        """Rows of numbers of lines: turns that share knobs stand in one row."""
-        rows = []
-        for number in circuit.turns:
-            knobs = {knob for knob, many in helper.form_of(circuit[number])}
-            near = [row for row in rows if row[1] & knobs]
-            rows = [row for row in rows if not row[1] & knobs]
-            rows.append((sum([row[0] for row in near], []) + [number], knobs.union(*[row[1] for row in near])))
-        return rows
-
-    def left_out(self, circuit, knobs):
-        lines = [
-            line for line in lines_of(circuit)
-            if not (line.startswith("turn ") and {knob for knob, many in helper.form_of(line)} & knobs)
-        ]
-        return with_lines(circuit.wires, lines)
-
     def test_words(self):
         count = 0
         for circuit in helper.some_circuits(154, 60, turns=5, knobs="abcdefghij"):
-            for numbers, knobs in self.groups(circuit):
-                less = self.left_out(circuit, knobs)
+            for numbers, knobs in helper.groups(circuit):
+                less = helper.left_out(circuit, knobs)
                 self.assertLessEqual(set(kept(circuit)), set(kept(less)))
                 self.assertLessEqual(
                     {(text, word.text) for text, word in bound(circuit)}, {(text, word.text) for text, word in bound(less)})
@@ -210,8 +139,8 @@ class WithoutTest(unittest.TestCase):
                 continue
             other = with_lines(circuit.wires, lines)
             self.assertEqual(same(circuit, other), SAME)
-            for numbers, knobs in self.groups(other):
-                self.assertEqual(same(self.left_out(circuit, knobs), self.left_out(other, knobs)), SAME)
+            for numbers, knobs in helper.groups(other):
+                self.assertEqual(same(helper.left_out(circuit, knobs), helper.left_out(other, knobs)), SAME)
 
 
 if __name__ == "__main__":

@@ -9,6 +9,8 @@ import unittest
 from looseknobs.circuits import Circuit
 from looseknobs.ratios import Ratio
 from looseknobs.spreads import spread
+from looseknobs.starts import Start
+from looseknobs.tables import Table
 from looseknobs.waves import Wave
 from looseknobs.words import Word
 
@@ -20,9 +22,13 @@ CLASSES = {
     "waves": {"Wave": {"at": ["setting"], "put": ["setting"], "slope": ["knob"]}},
     "circuits": {"Circuit": {"put": ["place", "line"], "without": ["number"]}},
     "spreads": {"Spread": {"part": ["letters"], "at": ["setting"]}},
+    "starts": {"Start": {"sign_of": ["word"], "like": ["other"]}},
+    "tables": {"Table": {"back": ["word"]}},
 }
 
-MADE = {"Ratio": ["number", "under"], "Word": ["text"], "Wave": ["terms"], "Circuit": ["text"]}
+MADE = {
+    "Ratio": ["number", "under"], "Word": ["text"], "Wave": ["terms"], "Circuit": ["text"], "Start": ["words"], "Table": ["images"],
+}
 
 FUNCTIONS = {
     "spreads": {"spread": ["circuit", "word"]},
@@ -36,6 +42,13 @@ FUNCTIONS = {
         "shows_packed": ["circuit", "most", "value"], "laid": ["circuit", "rows"], "plain": ["circuit"],
     },
     "keeping": {"kept": ["circuit"], "bound": ["circuit"]},
+    "starts": {
+        "mean": ["circuit", "start", "word"], "alike_from": ["one", "other", "start"],
+        "shows_alike_from": ["one", "other", "start", "value"], "hidden_from": ["circuit", "start"],
+        "hangs_from": ["circuit", "start", "word"],
+    },
+    "tables": {"table_of": ["circuit"], "gates": ["table"], "shows_gates": ["table", "value"], "behind": ["one", "other"]},
+    "telling": {"left": ["suspects", "looks"], "look": ["suspects", "looks"], "shows_look": ["suspects", "looks", "value"]},
 }
 
 OBJECTS = (
@@ -44,6 +57,8 @@ OBJECTS = (
     (Wave(()), ("terms", "knobs")),
     (Circuit("wires 1"), ("text", "wires", "knobs", "turns", "still")),
     (spread(Circuit("wires 1"), Word("X")), ("terms", "knobs")),
+    (Start((Word("X"),)), ("words", "wires")),
+    (Table((Word("X"), Word("Z"))), ("images", "wires")),
 )
 
 

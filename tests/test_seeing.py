@@ -28,36 +28,6 @@ def rounds(circuit):
     return sorted(found)
 
 
-def cleared(vectors, size):
-    """A whole-number clearing: rows whose sums are all that make 0 with each vector, told in the one way."""
-    rows = [[vector[at] for vector in vectors] + [int(at == place) for place in range(size)] for at in range(size)]
-    kept = echelon(rows, len(vectors) + size)
-    rows = [row[len(vectors):] for row in kept if not any(row[: len(vectors)])]
-    return tuple(tuple(row) for row in echelon(rows, size))
-
-
-def echelon(rows, width):
-    rows = [list(row) for row in rows]
-    top = 0
-    for column in range(width):
-        while True:
-            below = sorted((abs(row[column]), at) for at, row in enumerate(rows) if at >= top and row[column])
-            if not below:
-                break
-            least = below[0][1]
-            rows[top], rows[least] = rows[least], rows[top]
-            if rows[top][column] < 0:
-                rows[top] = [-n for n in rows[top]]
-            for at, row in enumerate(rows):
-                if at != top and (at > top or len(below) == 1):
-                    times = row[column] // rows[top][column]
-                    rows[at] = [a - times * b for a, b in zip(row, rows[top])]
-            if len(below) == 1:
-                top += 1
-                break
-    return rows
-
-
 class HiddenTest(unittest.TestCase):
     def in_one_way(self, rows, size):
         self.assertIs(type(rows), tuple)
@@ -76,7 +46,7 @@ class HiddenTest(unittest.TestCase):
         for circuit in DRAWN:
             rows = hidden(circuit)
             self.in_one_way(rows, len(circuit.knobs))
-            self.assertEqual(rows, cleared(rounds(circuit), len(circuit.knobs)), circuit.text)
+            self.assertEqual(rows, helper.cleared(rounds(circuit), len(circuit.knobs)), circuit.text)
             self.assertIs(type(seen(circuit)), int)
             self.assertEqual(seen(circuit), len(circuit.knobs) - len(rows))
 
@@ -109,7 +79,7 @@ class HiddenTest(unittest.TestCase):
             rows = hidden(circuit)
             self.in_one_way(rows, 18)
             found = {row for letters in helper.first_words(4) for row in self.rounds_of(circuit, letters)}
-            self.assertEqual(rows, cleared(sorted(found), 18))
+            self.assertEqual(rows, helper.cleared(sorted(found), 18))
 
     def rounds_of(self, circuit, letters):
         for place, wave in spread(circuit, Word(letters)).terms:
