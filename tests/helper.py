@@ -232,6 +232,16 @@ def ratio(number):
     return Ratio(number.numerator, number.denominator)
 
 
+def check_setting(test, setting, knobs):
+    """The setting is told as a tuple of just these knobs, with Ratios."""
+    test.assertIs(type(setting), tuple)
+    test.assertEqual([row[0] for row in setting], list(knobs))
+    for knob, c, s in setting:
+        test.assertIsInstance(c, Ratio)
+        test.assertIsInstance(s, Ratio)
+        test.assertEqual(c * c + s * s, Ratio(1))
+
+
 def angles_of(setting):
     return {knob: (fraction(c), fraction(s)) for knob, c, s in setting}
 

@@ -81,6 +81,25 @@ True
 [['ZX', 'XI', 'IX', 'XZ'], 'ZZ', True, True]
 >>> [behind(row, row.without(1)) == table_of(Circuit('wires 2\nh 0')), behind(row, row * Circuit('wires 2\nflip XZ')).back(xx).text, behind(row, mixer)]
 [False, '-XX', None]
+
+>>> from looseknobs.choosing import cheapest
+>>> cheapest(Circuit('wires 1\nturn Z by 1 k'), ((0, 'h 0', 2), (1, 'h 0', 1), (1, 'quarter X', 3)), (('free', Word('X'), 'k'),))
+('choice', 1, ((1, 'h 0', 1),), (((), 0),))
+
+>>> from looseknobs.benches import Bench
+>>> bench = Bench(rise, nought)
+>>> [bench.exchange(0), bench.fix('k', Ratio(3, 5), Ratio(4, 5)), bench.read(zi), bench.circuit[0], 'k' in bench, 'n' in bench]
+[None, None, Ratio(3, 5), 'turn XI by 1 k', False, True]
+>>> [bench.drop(2), bench.mean(zi).terms, bench.undo(), bench.read(Word('YX')), bench.done]
+[None, (((), Ratio(3, 5), Ratio(0)),), None, Ratio(-4, 5), 2]
+
+>>> from looseknobs.desk import Desk
+>>> from looseknobs.journals import journal
+>>> desk = Desk('wires 1\nturn X by 1 k\nstart Z\ndeeds\nput 1 turn Z by 1 m')
+>>> [desk.say(line) for line in ('hangs Y', 'knobs', 'fix k 3/5 4/5', 'read Z', 'hangs Y', 'seen', 'undo')]
+['k m', 'k m', 'ok', '3/5', 'm', '2', 'ok']
+>>> journal(desk.bench).split('\n')[2:]
+['start Z', 'deeds', 'put 1 turn Z by 1 m']
 """
 
 

@@ -1,4 +1,4 @@
-"""The interface's names, as far as they are built: the files, classes, members and parameters."""
+"""The interface's names: the files, classes, members and parameters."""
 
 import ast
 import importlib
@@ -6,7 +6,9 @@ import inspect
 import pathlib
 import unittest
 
+from looseknobs.benches import Bench
 from looseknobs.circuits import Circuit
+from looseknobs.desk import Desk
 from looseknobs.ratios import Ratio
 from looseknobs.spreads import spread
 from looseknobs.starts import Start
@@ -24,10 +26,18 @@ CLASSES = {
     "spreads": {"Spread": {"part": ["letters"], "at": ["setting"]}},
     "starts": {"Start": {"sign_of": ["word"], "like": ["other"]}},
     "tables": {"Table": {"back": ["word"]}},
+    "benches": {
+        "Bench": {
+            "put": ["place", "line"], "drop": ["number"], "exchange": ["number"], "fix": ["knob", "c", "s"], "loosen": ["knob"],
+            "mean": ["word"], "read": ["word"], "undo": [], "redo": [], "trial": [], "keep": [], "tried": ["look", "keep"], "copy": [],
+        },
+    },
+    "desk": {"Desk": {"say": ["line"]}},
 }
 
 MADE = {
     "Ratio": ["number", "under"], "Word": ["text"], "Wave": ["terms"], "Circuit": ["text"], "Start": ["words"], "Table": ["images"],
+    "Bench": ["circuit", "start"], "Desk": ["text"],
 }
 
 FUNCTIONS = {
@@ -49,6 +59,8 @@ FUNCTIONS = {
     },
     "tables": {"table_of": ["circuit"], "gates": ["table"], "shows_gates": ["table", "value"], "behind": ["one", "other"]},
     "telling": {"left": ["suspects", "looks"], "look": ["suspects", "looks"], "shows_look": ["suspects", "looks", "value"]},
+    "choosing": {"cheapest": ["circuit", "offers", "wishes"]},
+    "journals": {"journal": ["bench"], "read_journal": ["text"]},
 }
 
 OBJECTS = (
@@ -59,6 +71,8 @@ OBJECTS = (
     (spread(Circuit("wires 1"), Word("X")), ("terms", "knobs")),
     (Start((Word("X"),)), ("words", "wires")),
     (Table((Word("X"), Word("Z"))), ("images", "wires")),
+    (Bench(Circuit("wires 1"), Start((Word("X"),))), ("first", "circuit", "start", "setting", "done")),
+    (Desk("wires 1\nstart X\ndeeds"), ("bench",)),
 )
 
 

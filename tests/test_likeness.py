@@ -46,12 +46,7 @@ class LikenessTest(unittest.TestCase):
         self.assertEqual(len(told), 3, (one.text, other.text))
         name, setting, word = told
         self.assertEqual(name, "apart")
-        self.assertIs(type(setting), tuple)
-        self.assertEqual(tuple(row[0] for row in setting), knobs_of(one, other))
-        for knob, c, s in setting:
-            self.assertIsInstance(c, Ratio)
-            self.assertIsInstance(s, Ratio)
-            self.assertEqual(c * c + s * s, Ratio(1))
+        helper.check_setting(self, setting, knobs_of(one, other))
         self.assertIsInstance(word, Word)
         self.assertEqual(len(word), one.wires)
         angles = helper.angles_of(setting)

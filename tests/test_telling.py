@@ -10,7 +10,7 @@ from looseknobs.errors import BadLooks, BadSuspects, Settled
 from looseknobs.likeness import same
 from looseknobs.ratios import Ratio
 from looseknobs.starts import Start, alike_from
-from looseknobs.tables import table_of
+from looseknobs.tables import behind, table_of
 from looseknobs.telling import left, look, shows_look
 from looseknobs.waves import Wave
 from looseknobs.words import Word
@@ -140,12 +140,7 @@ class LookTest(unittest.TestCase):
         told = look(suspects, looks)
         self.assertIs(type(told), tuple)
         setting, start, word = told
-        self.assertIs(type(setting), tuple)
-        self.assertEqual([row[0] for row in setting], knobs_of(suspects))
-        for knob, c, s in setting:
-            self.assertIsInstance(c, Ratio)
-            self.assertIsInstance(s, Ratio)
-            self.assertEqual(c * c + s * s, Ratio(1))
+        helper.check_setting(self, setting, knobs_of(suspects))
         self.assertIsInstance(start, Start)
         self.assertIsInstance(word, Word)
         self.assertEqual([start.wires, len(word)], [suspects[0].wires] * 2)
@@ -217,6 +212,32 @@ class LookTest(unittest.TestCase):
         one, other = Circuit(helper.large_text(82)), Circuit(helper.large_text(83))
         suspects = (one, one, one.without(one.turns[1]), ~one, other.without(other.turns[0]), other, ~other, one)
         self.parts(suspects, ())
+
+
+class NamesTest(unittest.TestCase):
+    """Guarantee (d), for what sections 14 and 15 tell."""
+
+    def test_wires_and_knobs(self):
+        rng = random.Random(268)
+        names = {"a": "z", "b": "turn", "c": "b"}
+        for number in range(30):
+            suspects = some_suspects(rng, 1 + number % 6)
+            places = list(range(suspects[0].wires))
+            rng.shuffle(places)
+            pairs = [helper.exchanged_wires(helper.renamed(circuit, names), places) for circuit in suspects]
+            others, word = tuple(pair[0] for pair in pairs), pairs[0][1]
+            self.assertEqual(left(others, ()), left(suspects, ()))
+            seen, (angles, texts, text, read) = some_look(rng, suspects, 0)
+            changed = helper.setting_of({names[knob]: pair for knob, pair in angles.items()})
+            other = (changed, start_of([word(one) for one in texts]), Word(word(text)), helper.ratio(read))
+            self.assertEqual(left(others, (other,)), left(suspects, (seen,)))
+            fixed = [behind(suspects[0], circuit) for circuit in suspects]
+            for table, circuit in zip(fixed, others):
+                found = behind(others[0], circuit)
+                self.assertEqual(found is None, table is None)
+                if table is not None:
+                    for letters in helper.all_letters(table.wires)[::5]:
+                        self.assertEqual(found.back(Word(word(letters))).text, word(table.back(Word(letters)).text))
 
 
 class ShownTest(unittest.TestCase):
