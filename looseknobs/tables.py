@@ -81,9 +81,7 @@ def gates(table):
 
 def shows_gates(table, value):
     """Whether this value is such a result."""
-    if not isinstance(value, Circuit) or value.wires != table.wires or len(value.turns) > 0:
-        return False
-    return table_of(value) == table
+    return isinstance(value, Circuit) and len(value.turns) == 0 and table_of(value) == table
 
 
 # With all knobs at the angle 0 no turn does anything: so only one Table can be it.

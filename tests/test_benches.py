@@ -437,6 +437,7 @@ class CopyTest(unittest.TestCase):
             made(("put", 0, "h 1"), ("fix", "k", -1, 0)), made(("put", 0, "h 1"), ("fix", "m", 1, 0)), made(("put", 0, "h 1"), ("fix", "k", 0, 1)),
             made(("put", 0, "h 1"), ("fix", "k", 1, 0), start=start_of("IZ", "ZI")), made(("fix", "k", 1, 0), circuit=Circuit("wires 2\nh 1\nh 0")),
             made(("put", 0, "h 1"), ("fix", "k", 1, 0), ("fix", "k", 1, 0)), made(("put", 0, "h 1"), ("fix", "k", 1, 0), start=start_of("ZI", "-IZ")),
+            made(("put", 0, "h 1"), ("fix", "k", 1, 0), circuit=Circuit("wires 2\nh 1")),
         ):
             self.assertFalse(bench == other)
             self.assertTrue(bench != other)

@@ -85,7 +85,8 @@ class DeskTest(unittest.TestCase):
         desk = Desk(TEXT)
         refused_about(self, NothingToRedo, None, desk.say, "redo")
         for line, kind, value in (
-            ("put 6 h 0", BadPlace, 6), ("put -1 h 0", BadPlace, -1), ("put 0 h 2", BadLine, "h 2"), ("put 0 flip ZZ ZZ", BadLine, "flip ZZ ZZ"),
+            ("put 6 h 0", BadPlace, 6), ("put -1 h 0", BadPlace, -1), ("put 0 h 2", BadLine, "h 2"), ("put 0 h", BadLine, "h"), ("put 7 undo", BadPlace, 7),
+            ("put 0 flip ZZ ZZ", BadLine, "flip ZZ ZZ"),
             ("drop 5", NoLine, 5), ("drop -2", NoLine, -2), ("exchange 4", NoLine, 4), ("exchange 2", Unlike, 2), ("fix K 1 0", BadName, "K"),
             ("fix k 1 1", BadAngle, (Ratio(1), Ratio(1))), ("fix k -1/2 3", BadAngle, (Ratio(-1, 2), Ratio(3))), ("loosen k", NoKnob, "k"),
             ("loosen K", NoKnob, "K"), ("read ZI", Loose, "k"), ("read Q", BadWord, "Q"), ("read zi", BadWord, "zi"), ("hangs --ZI", BadWord, "--ZI"),
@@ -112,7 +113,7 @@ class DeskTest(unittest.TestCase):
             "", " ", "put", "put 0", "put h 0", "put 0 ", "put 0  h 0", " put 0 h 0", "put 0 h 0 ", "put  0 h 0", "PUT 0 h 0", "put +0 h 0",
             "put 00 h 0", "put 1/2 h 0", "put -0 h 0", "put a h 0", "drop", "drop ", "drop 0 0", "drop  0", "drop 0 ", "drop a", "drop 1/2",
             "drop 01", "exchange", "exchange 0 1", "exchange x", "exchange 0 ", " exchange 0", "fix", "fix k", "fix k 1", "fix k 1 0 ",
-            "fix k 1 0 0", "fix k  1 0", "fix k 2/2 0", "fix k 1 -0", "fix k a b", "fix k 1.0 0", "loosen", "loosen ", "loosen k k", "loosen  k",
+            "set k 1 0", "place 0 h 0", "free k", "remove 0", "fix k 1 0 0", "fix k  1 0", "fix k 2/2 0", "fix k 1 -0", "fix k a b", "fix k 1.0 0", "loosen", "loosen ", "loosen k k", "loosen  k",
             "undo ", " undo", "undo 1", "undo undo", "redo ", " redo", "redo 1", "Undo", "read", "read ", "read  ZI", "read ZI ", " read ZI",
             "read ZI IZ", "READ ZI", "readZI", "hangs", "hangs ", "hangs  ZI", "hangs ZI ", "hangs ZI ZI", "seen ", " seen", "seen k", "seen 1",
             "Seen", "knobs ", " knobs", "knobs k", "knob", "deeds", "start ZI IZ", "wires 2", "h 0", "turn XX by 1 k", "keep", "trial", "mean ZI",

@@ -166,7 +166,7 @@ class WrongTest(unittest.TestCase):
             "put 00 h 0", "put 0/1 h 0", "put 1/2 h 0", "put -0 h 0", "put 0. h 0", "put a h 0", "drop", "drop ", "drop 0 0", "drop  0",
             "drop 0 ", "drop a", "drop 1/2", "drop 01", "drop +1", "drop 2/2", "exchange", "exchange 0 1", "exchange x", "exchange 1/3",
             "exchange 0 ", "fix", "fix k", "fix k 1", "fix k 1 0 ", "fix k 1 0 0", "fix k  1 0", "fix 1 0", "fix k 2/2 0", "fix k 1 -0",
-            "fix k 1 0/1", "fix k 3/5 8/10", "fix k 1.0 0", "fix k a b", "fix  k 1 0", "loosen", "loosen ", "loosen k k", "loosen  k",
+            "fix k 1 0/1", "fix k 3/5 8/10", "set k 1 0", "fixed k 1 0", "place 0 h 0", "free k", "remove 0", "fix k 1.0 0", "fix k a b", "fix  k 1 0", "loosen", "loosen ", "loosen k k", "loosen  k",
             "undo", "redo", "read ZI", "hangs ZI", "seen", "knobs", "deeds", "start ZI IZ", "h 0", "keep", "trial", "wires 2", "# put 0 h 0",
         ]
         for line in forms:
@@ -176,7 +176,7 @@ class WrongTest(unittest.TestCase):
 
     def test_deeds_that_are_refused(self):
         for line in (
-            "put 3 h 0", "put -1 h 0", "put 0 h 2", "put 0 h 0 0", "put 0 start ZI", "put 0 deeds", "put 0 turn XI by 5 k", "put 0 flip X",
+            "put 3 h 0", "put -1 h 0", "put 0 h 2", "put 0 h", "put 0 drop 0", "put 0 h 0 0", "put 0 start ZI", "put 0 deeds", "put 0 turn XI by 5 k", "put 0 flip X",
             "drop 2", "drop -1", "exchange 0", "exchange 1", "exchange -1", "exchange 2", "fix K 1 0", "fix abcdefghi 1 0", "fix k1 1 0",
             "fix k 1 1", "fix k 3/5 3/5", "fix k 0 0", "loosen k", "loosen K", "loosen 1",
         ):
