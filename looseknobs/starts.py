@@ -10,7 +10,7 @@ from looseknobs.ratios import Ratio
 from looseknobs.spreads import spread
 from looseknobs.sums import led_at, led_words, rows_in
 from looseknobs.waves import Wave
-from looseknobs.words import MOST_WIRES, Word, is_word_of, need_word
+from looseknobs.words import Word, is_word_of, need_word
 
 
 class Start:
@@ -21,7 +21,7 @@ class Start:
             raise BadStart(words)
         products = _products(words)
         self.words = words
-        self.wires = len(words[0])
+        self.wires = len(words)
         self.signs = {word.letters: word.sign for word in products}
         # Of two products with the same letters the one makes of the other all I.
         if len(self.signs) < len(products):
@@ -112,18 +112,17 @@ def _means(circuit, start, knobs):
 
 
 def _are_words(value):
-    """Whether this is a tuple of one to four Words of one size, any two of which pass one another."""
-    if not isinstance(value, tuple) or not 1 <= len(value) <= MOST_WIRES:
+    """Whether this is a tuple of Words, as many as each of them has wires, any two of which pass one another."""
+    if not isinstance(value, tuple) or len(value) == 0:
         return False
-    first = value[0]
-    if not isinstance(first, Word) or not all([is_word_of(word, len(first)) for word in value]):
+    if not all([is_word_of(word, len(value)) for word in value]):
         return False
     return all([word.passes(other) for word in value for other in value])
 
 
 def _products(words):
     """The Words that are made of some of these words, each taken once; of none: all I."""
-    found = [Word("I" * len(words[0]))]
+    found = [Word("I" * len(words))]
     for word in words:
         found = [*found, *[made * word for made in found]]
     return found

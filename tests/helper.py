@@ -401,11 +401,11 @@ def with_lines(wires, lines):
 
 # Starts: any Z-like words, led through drawn fixed lines.
 
-def some_start(rng, wires, many=None):
-    """The texts of drawn words that make a start; as many as told, or as wires."""
+def some_start(rng, wires):
+    """The texts of drawn words that make a start."""
     fixed = "\n".join([f"wires {wires}"] + [some_fixed(rng, wires) for _ in range(8)])
     found = []
-    for wire in rng.sample(range(wires), many or wires):
+    for wire in rng.sample(range(wires), wires):
         ((letters, sign),) = back(fixed, at(wires, (wire, "Z"))).items()
         found.append(("" if sign * rng.choice((1, -1)) > 0 else "-") + letters)
     return found

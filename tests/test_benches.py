@@ -150,7 +150,7 @@ def some_deed(rng, bench, model):
 def drawn_bench(test, rng, fixed=3, turns=3):
     wires = rng.randint(1, 3)
     circuit = Circuit(helper.some_text(rng, wires, rng.randint(0, fixed), rng.randint(0, turns), KNOBS, 2))
-    texts = helper.some_start(rng, wires, rng.randint(1, wires))
+    texts = helper.some_start(rng, wires)
     model = Model(circuit, texts)
     model.test = test
     return Bench(circuit, start_of(*texts)), model
@@ -288,7 +288,7 @@ class RefusedTest(unittest.TestCase):
         self.assertEqual(other.circuit, bench.circuit.put(3, "h 0"))
 
     def test_start_of_another_size(self):
-        for start in (start_of("Z"), start_of("ZZZ"), start_of("ZIII", "IIIZ")):
+        for start in (start_of("Z"), start_of("ZZZ", "IZZ", "IIZ"), start_of("ZIII", "IIIZ", "IXII", "IIYI")):
             refused(self, OtherSize, start, Bench, self.bench.circuit, start)
 
     def test_put(self):
@@ -362,7 +362,7 @@ class RefusedTest(unittest.TestCase):
 
     def test_mean_and_read(self):
         for act in (self.bench.mean, self.bench.read):
-            for value in helper.any_values() + ["ZZ", start_of("ZZ")]:
+            for value in helper.any_values() + ["ZZ", start_of("ZZ", "IZ")]:
                 if not isinstance(value, Word):
                     refused(self, BadWord, value, act, value)
             for text in ("Z", "-ZZZ", "IIII"):

@@ -32,7 +32,10 @@ class DeskTest(unittest.TestCase):
         for value in helper.any_values() + [b"wires 1", [TEXT], desk_bench(), Desk(TEXT)]:
             if not isinstance(value, str):
                 refused_about(self, BadJournal, 0, Desk, value)
-        for text, number in (("", 1), ("wires 1\nstart X", 3), (TEXT + "\n", 9), (TEXT + "\nundo", 9), (TEXT.replace("put 4", "put 5"), 8)):
+        for text, number in (
+            ("", 1), ("wires 1\nstart X", 3), (TEXT + "\n", 9), (TEXT + "\nundo", 9), (TEXT.replace("put 4", "put 5"), 8),
+            (TEXT.replace("ZI IZ", "ZI"), 6), (TEXT.replace("ZI IZ", "-XX"), 6),
+        ):
             refused_about(self, BadJournal, number, Desk, text)
 
     def test_deeds_and_what_takes_them_back(self):

@@ -47,8 +47,9 @@ class WrittenTest(unittest.TestCase):
             bench = Bench(Circuit("wires 1"), Start(tuple(Word(text) for text in words)))
             self.assertEqual(journal(bench), f"wires 1\nstart {words[0]}\ndeeds")
             self.assertEqual(read_journal(journal(bench)), bench)
-        bench = Bench(Circuit("wires 4"), Start((Word("ZIII"),)))
-        self.assertEqual(read_journal(journal(bench)).start.words, (Word("ZIII"),))
+        words = tuple(Word(text) for text in ("ZIII", "-IXXI", "IZZI", "IIIY"))
+        bench = Bench(Circuit("wires 4"), Start(words))
+        self.assertEqual(read_journal(journal(bench)).start.words, words)
 
     def test_drawn_ones(self):
         rng = random.Random(301)
@@ -145,15 +146,21 @@ class WrongTest(unittest.TestCase):
 
     def test_the_start(self):
         for line in (
-            "deeds", "start ", "start Z", "start ZI ", "start  ZI IZ", "start ZI  IZ", "start ZI XI", "start ZI ZI", "start ZI IZ ZZ",
+            "deeds", "start ", "start Z", "start ZI ", "start  ZI IZ", "start ZI  IZ", "start ZI XI", "start ZI ZI", "start ZI -II", "start ZI IZ ZZ",
             "start II", "start zi iz", "start ZI,IZ", "start --ZI", "start +ZI", "start ZII IZI", "start ZI Z", "start ZI IZ deeds",
-            "start Z Z Z Z Z", "start XX ZZ -YY", "start 1", "start ZI\tIZ",
+            "start Z Z Z Z Z", "start XX ZZ -YY", "start 1", "start ZI\tIZ", "start ZI", "start -YX", "start ZZ", "start ZII IZI IIZ",
         ):
             wrong(self, HEAD[:3] + [line] + HEAD[4:], 4)
             wrong(self, HEAD[:3] + [line], 4)
         wrong(self, HEAD[:3] + ["deeds", "start ZI IZ", "deeds"], 4)
-        for line in ("start ZI IZ", "start -XX ZZ", "start -YX"):
+        for line in ("start ZI IZ", "start -XX ZZ", "start -YX XY"):
             self.assertEqual(journal(read_journal("\n".join(HEAD[:3] + [line, "deeds"]))).split("\n")[3], line)
+
+    def test_starts_of_fewer_words_than_wires(self):
+        for wires, rows in ((2, ("ZI", "-YI", "XX")), (3, ("ZII", "ZII IZI", "-XXX ZZI")), (4, ("ZIII IZII IIZI", "XXXX ZZZZ", "IIIY"))):
+            for row in rows:
+                wrong(self, [f"wires {wires}", f"start {row}", "deeds"], 2)
+                wrong(self, [f"wires {wires}", "h 0", "flip " + "X" * wires, f"start {row}", "deeds", "put 0 h 1"], 4)
 
     def test_the_line_deeds(self):
         for line in ("", "deeds ", " deeds", "Deeds", "deed", "start ZI IZ", "put 0 h 0", "deeds deeds", "deeds 1"):

@@ -18,10 +18,10 @@ NOUGHT = Start((Word("ZI"), Word("IZ")))
 
 
 def drawn(seed, many, **told):
-    """Circuits, each with the texts of the words of a drawn start; some of fewer words than wires."""
+    """Circuits, each with the texts of the words of a drawn start."""
     rng = random.Random(seed)
     circuits = helper.some_circuits(seed + 1, many, **told)
-    return [(circuit, helper.some_start(rng, circuit.wires, rng.randint(1, circuit.wires))) for circuit in circuits]
+    return [(circuit, helper.some_start(rng, circuit.wires)) for circuit in circuits]
 
 
 def start_of(texts):
@@ -66,15 +66,16 @@ class MeanTest(unittest.TestCase):
         ):
             self.assertEqual(mean(turn, start_of(words), Word(text)), wanted, (words, text))
 
-    def test_fewer_words_than_wires(self):
+    def test_told_ones_of_two_wires(self):
         circuit = Circuit("wires 2\nh 0\ncx 0 1\nturn ZI by 2 k")
         for words, text, wanted in (
             (("ZI", "IZ"), "XX", Wave((((("k", 2),), 1, 0),))),
-            (("ZI",), "XX", Wave((((("k", 2),), 1, 0),))),
-            (("ZI",), "ZZ", Wave(())),
-            (("IZ",), "ZZ", Wave((((), 1, 0),))),
-            (("-ZZ",), "XX", Wave(())),
-            (("-ZZ",), "II", Wave((((), 1, 0),))),
+            (("ZI", "IX"), "XX", Wave((((("k", 2),), 1, 0),))),
+            (("ZI", "IX"), "ZZ", Wave(())),
+            (("XI", "IZ"), "ZZ", Wave((((), 1, 0),))),
+            (("-ZZ", "XX"), "XX", Wave(())),
+            (("-ZZ", "IZ"), "XX", Wave((((("k", 2),), -1, 0),))),
+            (("-ZZ", "XX"), "II", Wave((((), 1, 0),))),
         ):
             self.assertEqual(mean(circuit, start_of(words), Word(text)), wanted, (words, text))
 
@@ -83,7 +84,7 @@ class MeanTest(unittest.TestCase):
         for seed in range(4):
             text = helper.large_text(seed + 40)
             circuit = Circuit(text)
-            texts = helper.some_start(rng, 4, 4 - seed % 2)
+            texts = helper.some_start(rng, 4)
             angles = helper.some_angles(rng, circuit.knobs)
             for _ in range(4):
                 word = helper.some_word(rng, 4)
@@ -93,7 +94,7 @@ class MeanTest(unittest.TestCase):
             self.assertEqual(alike_from(circuit, circuit, start_of(texts)), ("same",))
 
     def test_refused(self):
-        one, three = Start((Word("Z"),)), Start((Word("ZZZ"),))
+        one, three = Start((Word("Z"),)), Start((Word("ZZZ"), Word("IZZ"), Word("IIZ")))
         for act in (mean, hangs_from):
             for start in (one, three):
                 for word in (Word("ZZ"), Word("Z"), Word("ZZZ"), None, "ZZ"):
@@ -124,7 +125,7 @@ class HangsTest(unittest.TestCase):
     def test_knobs_that_no_start_sees(self):
         self.assertEqual(hangs_from(RISE, NOUGHT, Word("ZI")), ("k",))
         self.assertEqual(hangs_from(RISE, NOUGHT, Word("ZZ")), ())
-        self.assertEqual(hangs_from(RISE, Start((Word("IX"),)), Word("IY")), ())
+        self.assertEqual(hangs_from(RISE, Start((Word("IX"), Word("XI"))), Word("XX")), ())
         self.assertEqual(hangs_from(RISE, Start((Word("IX"), Word("XI"))), Word("IX")), ("m", "n"))
 
 
@@ -168,9 +169,9 @@ class HiddenFromTest(unittest.TestCase):
 
     def test_told_ones(self):
         self.assertEqual(hidden_from(RISE, NOUGHT), ((0, 1, 0), (0, 0, 1)))
-        self.assertEqual(hidden_from(RISE, Start((Word("ZZ"),))), ((0, 1, 0), (0, 0, 1)))
+        self.assertEqual(hidden_from(RISE, Start((Word("ZZ"), Word("-IZ")))), ((0, 1, 0), (0, 0, 1)))
         self.assertEqual(hidden_from(RISE, Start((Word("IX"), Word("XI")))), ((1, 0, 0), (0, 1, -1)))
-        self.assertEqual(hidden_from(RISE, Start((Word("XI"),))), ((1, 0, 0), (0, 1, 0), (0, 0, 1)))
+        self.assertEqual(hidden_from(RISE, Start((Word("XI"), Word("IZ")))), ((1, 0, 0), (0, 1, 0), (0, 0, 1)))
         self.assertEqual(hidden_from(Circuit("wires 2\nh 0"), NOUGHT), ())
         both = Circuit("wires 1\nturn X by 2 a\nturn X by 4 b")
         self.assertEqual(hidden_from(both, Start((Word("Z"),))), ((2, -1),))

@@ -116,7 +116,7 @@ class TableTest(unittest.TestCase):
         for other in (table("X", "Z"), table_of(Circuit("wires 3")), table_of(Circuit("wires 4\nh 0"))):
             refused(self, OtherSize, other, lambda: told * other)
             refused(self, OtherSize, told, lambda: other * told)
-        for value in helper.any_values() + [told.images, Start((Word("ZZ"),))]:
+        for value in helper.any_values() + [told.images, Start((Word("ZZ"), Word("XX")))]:
             with self.assertRaises(TypeError):
                 told * value
             with self.assertRaises(TypeError):

@@ -49,7 +49,7 @@ def some_look(rng, suspects, number=None, more=()):
     """A look that is right for the suspect with this number, or for none; with texts for the test's own reckoning."""
     wires = suspects[0].wires
     angles = helper.some_angles(rng, knobs_of(suspects) + list(more), rng.random() < 0.7)
-    texts = helper.some_start(rng, wires, rng.randint(1, wires))
+    texts = helper.some_start(rng, wires)
     word = rng.choice(("", "-")) + rng.choice(helper.all_letters(wires))
     read = helper.Fraction(7, 3) if number is None else helper.mean_at(suspects[number].text, texts, word, angles)
     return (helper.setting_of(angles), start_of(texts), Word(word), helper.ratio(read)), (angles, texts, word, read)
@@ -292,7 +292,7 @@ class ShownTest(unittest.TestCase):
             (("k", True, 0), m), None, "km", {"k": 1}, (("K", 1, 0), m),
         ):
             self.assertFalse(self.shown((setting, start, word)))
-        for other in (start_of(["ZI"]), start_of(["ZI", "IZ"]), ("Z",), (Word("Z"),), Word("Z"), None, "Z", [start]):
+        for other in (start_of(["ZI", "IZ"]), start_of(["ZII", "IZI", "IIZ"]), ("Z",), (Word("Z"),), Word("Z"), None, "Z", [start]):
             self.assertFalse(self.shown(((k, m), other, word)))
         for other in (Word("ZZ"), Word("II"), "Z", None, start, [word], (word,), 1):
             self.assertFalse(self.shown(((k, m), start, other)))
@@ -347,7 +347,7 @@ class RefusedTest(unittest.TestCase):
             (k, m, ("N", 1, 0)), None, "km", {"k": 1}, (["k", 1, 0], m), Word("ZZ"), start, (k, ("m", Wave(()), 1)),
         )]
         wrong += [(setting, one, word, number) for one in (
-            None, "ZI", Word("ZI"), (Word("ZI"), Word("IZ")), start_of(["Z"]), start_of(["ZII"]), start_of(["ZIII", "IIIZ"]), [start], 1,
+            None, "ZI", Word("ZI"), (Word("ZI"), Word("IZ")), start_of(["Z"]), start_of(["ZII", "IZI", "IIZ"]), [start], (start,), 1,
         )]
         wrong += [(setting, start, one, number) for one in (
             None, "ZZ", Word("Z"), Word("ZZZ"), Word("-IIII"), start, [word], (word,), 1, ("ZZ",),
@@ -363,7 +363,7 @@ class RefusedTest(unittest.TestCase):
     def test_right_looks_that_look_unusual(self):
         setting, start, word, number = self.look
         for one in (
-            (setting, start_of(["XX"]), word, number), (setting, start, Word("-II"), -1), (setting, start, Word("XY"), Ratio(10 ** 300, 7)),
+            (setting, start_of(["XX", "-ZZ"]), word, number), (setting, start, Word("-II"), -1), (setting, start, Word("XY"), Ratio(10 ** 300, 7)),
             ((("a", 0, 1),) + setting + (("z", -1, 0),), start, word, 0),
         ):
             self.assertIs(type(left(self.suspects, (one,))), tuple)

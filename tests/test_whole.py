@@ -40,7 +40,7 @@ CALLS = (
     (Ratio, (4, 6)), (Ratio.of, ("-2/3",)), (Ratio(3).divided, (2,)), (Word, ("-XY",)), (Word("XX").bent, (Word("ZI"),)),
     (Word("XX").passes, (ZZ,)), (Wave, ((((("k", 1),), 1, 0),),)), (Circuit, ("wires 1\nh 0",)), (ONE.put, (1, "h 1")), (ONE.without, (2,)),
     (spreads.spread(ONE, ZZ).part, ("ZZ",)), (spreads.spread(ONE, ZZ).at, (SETTING,)), (starts.mean(ONE, NOUGHT, ZZ).at, (SETTING,)),
-    (starts.mean(ONE, NOUGHT, ZZ).put, (SETTING,)), (starts.mean(ONE, NOUGHT, ZZ).slope, ("k",)), (Start, ((ZZ,),)),
+    (starts.mean(ONE, NOUGHT, ZZ).put, (SETTING,)), (starts.mean(ONE, NOUGHT, ZZ).slope, ("k",)), (Start, ((ZZ, Word("-XX")),)),
     (NOUGHT.sign_of, (ZZ,)), (NOUGHT.like, (NOUGHT,)), (Table, ((Word("X"), Word("Y")),)), (BELL.back, (ZZ,)), (Bench, (ONE, NOUGHT)),
 )
 
